@@ -1,0 +1,1 @@
+"""Rootstamp: a book of keys that nobody needs to believe."""
