@@ -1,4 +1,10 @@
-"""Terms with their written forms, and things that are no terms, for several tests."""
+"""What several tests share: terms and things, stampers, changed papers, and plain models of the document's points."""
+
+import os
+import zlib
+
+from rootstamp.stampers import counting, writing
+from rootstamp.tables import Table
 
 GREATEST = 10 ** 60 - 1
 
@@ -70,3 +76,113 @@ NO_TERMS = NO_STAMPS + (
     ["a"], ["a", 5], ["leaf", 12, "leaf"], {"a": "b"}, [("a",)],
     ("a", 1, 2, 3, 4, 5, 6, 7, 8), ("a",) * 9, ("a",) * 10, ("a",) * 100,
 ) + tuple(with_a_wrong_part())
+
+# Anything that may be handed in where a thing is taken.
+THINGS = NO_STAMPS + TERMS[:4] + (
+    0, 1, 2, 5, 60, 61, 1 << 60, GREATEST, "", "x", "leaf", "a" * 60, "a" * 61, ((), ()), ((), ("bare",)), (0, 0), (1, 5),
+    [0, 0], [(), ("bare",)], {0: 1}, ("cut", 0), ("leaf", 0, ""), (((), ("bare",)),), ((), ((), ("bare",))),
+)
+
+
+def short(thing):
+    return repr(thing)[:100]
+
+
+def weak(many):
+    """A stamper with so many stamps: it does not look sure for long."""
+    return lambda term: zlib.crc32(repr(term).encode()) % many
+
+
+def seldom(term):
+    """A weak stamper that looks like a sure one for most terms, and gives texts as well."""
+    number = zlib.crc32(repr(term).encode())
+    return f"{number % 997}" if number % 2 else number % 997
+
+
+def stampers():
+    """Some of each kind, new ones at each call: sure and weak, of numbers and of texts."""
+    return (counting(), writing(), weak(1), weak(3), weak(50), seldom, lambda term: "")
+
+
+def sure_stampers():
+    return (counting(), writing())
+
+
+NEAR = (0, 1, 2, 7, True, False, None, "", "x", (), [], {}, ("bare",), ("leaf", 0, ""), ("cut", 0), ("fork", 0, 0, 1, 2))
+
+
+def changes(thing):
+    """Things that are unlike this one in one spot, of all kinds; none of them is the thing itself."""
+    kept = repr(thing)
+    for other in every_change(thing):
+        if repr(other) != kept:
+            yield other
+
+
+def every_change(thing):
+    yield from NEAR
+    if isinstance(thing, int):
+        yield from (thing - 1, thing + 1, -thing, thing ^ 1, thing << 1, thing >> 1, str(thing), 10 ** 60, 10 ** 99)
+    if isinstance(thing, str):
+        yield from (thing + "x", thing[:-1], "x" + thing, [thing], "a" * 61)
+    if isinstance(thing, tuple):
+        yield from (list(thing), thing[::-1], thing + thing, (thing,), thing[1:], thing[:-1], dict(enumerate(thing)))
+        for place, part in enumerate(thing):
+            ahead, behind = thing[:place], thing[place + 1:]
+            yield ahead + behind
+            yield ahead + (part, part) + behind
+            for other in every_change(part):
+                yield ahead + (other,) + behind
+
+
+def figures(bits, number):
+    """A number by as many bits, as a text."""
+    return format(number, f"0{bits}b") if bits else ""
+
+
+def plain_term(stamper, bits, rows):
+    """The term of the knot of a dict of keys and values, straight from point 23, by texts of bits."""
+    if not rows:
+        return ("bare",)
+    if len(rows) == 1:
+        return ("leaf",) + list(rows.items())[0]
+    begin = os.path.commonprefix([figures(bits, key) for key in rows])
+    marks = [plain_mark(stamper, bits, plain_side(bits, rows, begin + turn)) for turn in "01"]
+    return ("fork", len(begin), int("0" + begin, 2), marks[0], marks[1])
+
+
+def plain_side(bits, rows, begin):
+    return {key: value for key, value in rows.items() if figures(bits, key).startswith(begin)}
+
+
+def plain_mark(stamper, bits, rows):
+    return stamper(plain_term(stamper, bits, rows))
+
+
+def plain_slip(stamper, bits, rows, key):
+    """The slip of a dict of keys and values, straight from point 31."""
+    way = figures(bits, key)
+    term = plain_term(stamper, bits, rows)
+    if term[0] != "fork" or not way.startswith(figures(term[1], term[2])):
+        return ((), term)
+    begin = way[:term[1]]
+    turn = way[term[1]]
+    beneath = plain_slip(stamper, bits, plain_side(bits, rows, begin + turn), key)
+    aside = plain_mark(stamper, bits, plain_side(bits, rows, begin + "10"[int(turn)]))
+    return (((term[1], aside),) + beneath[0], beneath[1])
+
+
+def some_rows(random, bits, most):
+    """A dict of at most so many keys, near one another or far apart, with values."""
+    many = random.randint(0, most)
+    keys = [random.getrandbits(bits) for _ in range(many)]
+    keys += [random.choice(keys) ^ (1 << random.randrange(bits)) for _ in range(many) if random.random() < 0.5]
+    random.shuffle(keys)
+    return {key: random.choice(("", "a", "b", "blue", "5", "a" * 60)) for key in keys[:most]}
+
+
+def table_of(stamper, bits, rows):
+    table = Table(stamper, bits)
+    for key, value in rows.items():
+        table.put(key, value)
+    return table

@@ -128,5 +128,124 @@ class Trees(unittest.TestCase):
                 self.assertIn(ast.unparse(node.comparators[0]), ("None", "True", "False"), where)
 
 
+def trees():
+    return {path.stem: ast.parse(text) for path, text in sources()}
+
+
+def imported(tree):
+    """The names that a file draws from others, with the module of each."""
+    rows = [node for node in tree.body if isinstance(node, ast.ImportFrom)]
+    return {alias.asname or alias.name: row.module.split(".")[-1] for row in rows for alias in row.names}
+
+
+def at_top(tree):
+    """The names that are bound at a file's top, but by imports."""
+    names = [node.name for node in tree.body if isinstance(node, (ast.FunctionDef, ast.ClassDef))]
+    return names + [target.id for node in tree.body if isinstance(node, ast.Assign) for target in node.targets]
+
+
+def classes(tree):
+    return [node for node in tree.body if isinstance(node, ast.ClassDef)]
+
+
+def method_names():
+    found = set()
+    for tree in trees().values():
+        for kind in classes(tree):
+            found.update(node.name for node in kind.body if isinstance(node, ast.FunctionDef))
+    return found
+
+
+class Whole(unittest.TestCase):
+    def test_names_are_drawn_from_where_they_are_defined(self):
+        found = trees()
+        for stem, tree in found.items():
+            for name, module in imported(tree).items():
+                self.assertIn(name, at_top(found[module]), stem)
+
+    def test_no_two_files_draw_from_one_another(self):
+        draws = {stem: set(imported(tree).values()) for stem, tree in trees().items()}
+        while draws:
+            ends = [stem for stem, drawn in draws.items() if not drawn & set(draws)]
+            self.assertTrue(ends, draws)
+            draws = {stem: drawn for stem, drawn in draws.items() if stem not in ends}
+
+    def test_each_name_once_at_a_files_top(self):
+        for stem, tree in trees().items():
+            names = at_top(tree) + list(imported(tree))
+            self.assertEqual(len(names), len(set(names)), stem)
+
+    def test_what_is_imported_is_used(self):
+        for stem, tree in trees().items():
+            used = {node.id for node in ast.walk(tree) if isinstance(node, ast.Name)}
+            self.assertEqual(sorted(set(imported(tree)) - used), [], stem)
+
+    def test_locals_are_not_called_like_names_of_the_top(self):
+        for stem, tree in trees().items():
+            top = set(at_top(tree)) | set(imported(tree))
+            for function in ast.walk(tree):
+                if isinstance(function, (ast.FunctionDef, ast.Lambda)):
+                    for node in ast.walk(function):
+                        if isinstance(node, ast.arg):
+                            self.assertNotIn(node.arg, top, stem)
+                        if isinstance(node, ast.Name) and isinstance(node.ctx, ast.Store):
+                            self.assertNotIn(node.id, top, stem)
+
+    def test_no_name_is_a_method_here_and_a_value_there(self):
+        methods = method_names()
+        for path, node, where in nodes():
+            if isinstance(node, ast.Attribute) and isinstance(node.ctx, ast.Store):
+                self.assertNotIn(node.attr, methods, where)
+                self.assertFalse(any(hasattr(kind, node.attr) for kind in (str, int, list, dict, set, bytes)), where)
+
+    def test_methods_are_called_where_they_stand(self):
+        methods = method_names() | set(METHODS)
+        for stem, tree in trees().items():
+            called = {id(node.func) for node in ast.walk(tree) if isinstance(node, ast.Call)}
+            for node in ast.walk(tree):
+                if isinstance(node, ast.Attribute) and id(node) not in called:
+                    self.assertNotIn(node.attr, methods, f"{stem}, line {node.lineno}")
+
+    def test_classes_are_called_or_asked_for(self):
+        for stem, tree in trees().items():
+            kinds = {name for other in trees().values() for name in (kind.name for kind in classes(other))}
+            fit = set()
+            for node in ast.walk(tree):
+                if isinstance(node, ast.Call):
+                    fit.add(id(node.func))
+                    if isinstance(node.func, ast.Name) and node.func.id == "isinstance":
+                        fit.update(id(name) for name in ast.walk(node.args[1]))
+                if isinstance(node, ast.ClassDef):
+                    fit.update(id(base) for base in node.bases)
+                    self.assertLessEqual(len(node.bases), 1, node.name)
+                if isinstance(node, ast.ExceptHandler):
+                    fit.update(id(name) for name in ast.walk(node.type))
+                if isinstance(node, ast.Attribute) and node.attr == "__init__":
+                    fit.add(id(node.value))
+            for node in ast.walk(tree):
+                if isinstance(node, ast.Name) and node.id in kinds:
+                    self.assertIn(id(node), fit, f"{stem}, line {node.lineno}")
+
+    def test_texts_have_no_percent_sign(self):
+        for path, node, where in nodes():
+            if isinstance(node, ast.Constant) and isinstance(node.value, str):
+                self.assertNotIn(chr(37), node.value, where)
+
+    def test_walked_on_the_spot(self):
+        takers = ("list", "tuple", "dict", "sorted", "sum", "any", "all", "enumerate", "zip", "min", "max")
+        for stem, tree in trees().items():
+            fit = set()
+            for node in ast.walk(tree):
+                if isinstance(node, (ast.For, ast.comprehension)):
+                    fit.add(id(node.iter))
+                if isinstance(node, ast.Call) and isinstance(node.func, ast.Name) and node.func.id in takers and node.args:
+                    fit.add(id(node.args[0]))
+            for node in ast.walk(tree):
+                if isinstance(node, ast.Call):
+                    name = getattr(node.func, "id", getattr(node.func, "attr", ""))
+                    if name in ("zip", "enumerate", "reversed", "range", "items", "keys", "values"):
+                        self.assertIn(id(node), fit, f"{stem}, line {node.lineno}")
+
+
 if __name__ == "__main__":
     unittest.main()
