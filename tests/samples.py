@@ -186,3 +186,64 @@ def table_of(stamper, bits, rows):
     for key, value in rows.items():
         table.put(key, value)
     return table
+
+
+def plain_paper(stamper, bits, rows, low, high, place=""):
+    """The paper of a dict of keys and values for a stretch, straight from point 45; place is a text of bits."""
+    least, greatest = int(place.ljust(bits, "0"), 2), int(place.ljust(bits, "1"), 2)
+    if greatest < low or high < least:
+        return ("cut", plain_mark(stamper, bits, rows))
+    term = plain_term(stamper, bits, rows)
+    if term[0] != "fork":
+        return term
+    begin = figures(term[1], term[2])
+    parts = [plain_paper(stamper, bits, plain_side(bits, rows, begin + turn), low, high, begin + turn) for turn in "01"]
+    return term[:3] + tuple(parts)
+
+
+def plain_half(many):
+    power = 1
+    while power * 2 < many:
+        power *= 2
+    return power
+
+
+def plain_top(stamper, entries):
+    """The top of a list of entries, straight from point 52."""
+    if not entries:
+        return stamper(("void",))
+    if len(entries) == 1:
+        return stamper(("entry", entries[0]))
+    cut = plain_half(len(entries))
+    return stamper(("joint", plain_top(stamper, entries[:cut]), plain_top(stamper, entries[cut:])))
+
+
+def plain_head(stamper, entries):
+    return (len(entries), stamper(("row", len(entries), plain_top(stamper, entries))))
+
+
+def plain_marks(stamper, entries, place):
+    """The marks of the paper of a place, straight from point 54."""
+    if len(entries) == 1:
+        return ()
+    cut = plain_half(len(entries))
+    if place < cut:
+        return (plain_top(stamper, entries[cut:]),) + plain_marks(stamper, entries[:cut], place)
+    return (plain_top(stamper, entries[:cut]),) + plain_marks(stamper, entries[cut:], place - cut)
+
+
+def plain_growth(stamper, entries, elder):
+    """The paper of growth, straight from point 56."""
+    if not entries:
+        return ()
+    if elder in (0, len(entries)):
+        return (plain_top(stamper, entries),)
+    cut = plain_half(len(entries))
+    if elder <= cut:
+        return plain_growth(stamper, entries[:cut], elder) + (plain_top(stamper, entries[cut:]),)
+    return (plain_top(stamper, entries[:cut]),) + plain_growth(stamper, entries[cut:], elder - cut)
+
+
+def some_entries(many):
+    """Entries of numbers and texts, some of them alike."""
+    return [place % 7 if place % 3 else f"e{place % 11}" for place in range(many)]
