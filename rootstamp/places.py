@@ -1,7 +1,7 @@
 """The paper of a place in a row."""
 
-from rootstamp.errors import Broken, NoHead, NoPaper, NoPlace
-from rootstamp.rows import is_head
+from rootstamp.errors import Broken, NoPaper, NoPlace
+from rootstamp.rows import check_head
 from rootstamp.shapes import are_marks, is_place, ways
 from rootstamp.terms import is_stamp
 
@@ -35,8 +35,7 @@ def place_mark(stamper, count, place, paper):
 
 
 def place_answer(stamper, head, place, paper):
-    if not is_head(head):
-        raise NoHead()
+    check_head(head)
     came = place_mark(stamper, head[0], place, paper)
     if came != head[1]:
         raise Broken(head[1], came)

@@ -1,6 +1,6 @@
 """Rows of entries that only grow, and heads."""
 
-from rootstamp.errors import NoPlace, NoStamp
+from rootstamp.errors import NoHead, NoPlace, NoStamp
 from rootstamp.shapes import half, is_count, is_elder, is_place, ways
 from rootstamp.terms import is_stamp
 
@@ -15,6 +15,11 @@ def none_head(stamper):
 
 def is_head(thing):
     return isinstance(thing, tuple) and len(thing) == 2 and is_count(thing[0]) and is_stamp(thing[1])
+
+
+def check_head(thing):
+    if not is_head(thing):
+        raise NoHead()
 
 
 class Row:
