@@ -1,6 +1,6 @@
 """The paper of a place in a row."""
 
-from rootstamp.errors import Broken, NoPaper, NoPlace
+from rootstamp.errors import Broken, NoPaper, NoPlace, StampError
 from rootstamp.rows import check_head
 from rootstamp.shapes import are_marks, is_place, ways
 from rootstamp.terms import is_stamp
@@ -40,3 +40,11 @@ def place_answer(stamper, head, place, paper):
     if came != head[1]:
         raise Broken(head[1], came)
     return paper[0]
+
+
+def place_entry(stamper, head, place, paper):
+    """The entry that a paper answers under a head, or None where it is not let by."""
+    try:
+        return place_answer(stamper, head, place, paper)
+    except StampError:
+        return None

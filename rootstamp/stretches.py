@@ -14,6 +14,10 @@ def check_stretch(bits, low, high):
         raise NoStretch()
 
 
+def is_stretch(bits, low, high):
+    return is_key(bits, low) and is_key(bits, high) and low <= high
+
+
 def meets(bits, low, high, depth, begin):
     ends = span(bits, depth, begin)
     return ends[0] <= high and low <= ends[1]

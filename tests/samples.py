@@ -3,6 +3,9 @@
 import os
 import zlib
 
+from rootstamp.houses import House
+from rootstamp.rows import Row
+from rootstamp.seals import Seals
 from rootstamp.stampers import counting, writing
 from rootstamp.tables import Table
 
@@ -247,3 +250,32 @@ def plain_growth(stamper, entries, elder):
 def some_entries(many):
     """Entries of numbers and texts, some of them alike."""
     return [place % 7 if place % 3 else f"e{place % 11}" for place in range(many)]
+
+
+def row_of(stamper, entries):
+    row = Row(stamper)
+    for entry in entries:
+        row.add(entry)
+    return row
+
+
+# The tables of the makes of a house, one behind the other.
+BOOK = ({}, {5: "a"}, {5: "b", 6: ""}, {1: "c", 5: "b", 6: "", 9: "b", 13: "", 12: "z"}, {5: "a"}, {0: "x", 15: "y"})
+
+
+def set_rows(house, rows):
+    """The house's table has these rows from then on, and no others."""
+    for key in range(16):
+        if key in rows:
+            house.put(key, rows[key])
+        else:
+            house.put(key, "")
+            house.take(key)
+
+
+def book_house(stamper, makes=BOOK, seals=None):
+    house = House(stamper, 4, seals or Seals())
+    for rows in makes:
+        set_rows(house, rows)
+        house.make()
+    return house

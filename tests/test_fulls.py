@@ -13,12 +13,11 @@ from rootstamp.shapes import ways
 from rootstamp.slips import slip_mark, slip_of, slip_terms
 from rootstamp.stampers import clash, counting, writing
 from rootstamp.stretches import stretch_mark, stretch_of, stretch_terms
-from tests.samples import NO_NUMBERS, NO_STAMPS, THINGS, changes, short, stampers, sure_stampers, table_of, weak
+from tests.samples import BOOK, NO_NUMBERS, NO_STAMPS, THINGS, changes, short, stampers, sure_stampers, table_of, weak
 
 NO_HEADS = (None, (), (1,), (1, 5, 5), [1, 5], (True, 5), (-1, 5), (1 << 60, 5), (1, None), (1, 10 ** 60), "h", 5)
 NO_KEYS = (-1, 16, 10 ** 99) + NO_NUMBERS
 NO_PLACES = NO_NUMBERS + (-1, 10 ** 99, 3, 4)
-BOOK = ({}, {5: "a"}, {5: "b", 6: ""}, {1: "c", 5: "b", 6: "", 9: "b", 13: "", 12: "z"}, {5: "a"}, {0: "x", 15: "y"})
 
 
 class Book:

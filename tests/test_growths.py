@@ -6,21 +6,14 @@ import unittest
 
 from rootstamp.errors import Broken, NoHead, NoPaper, NoPlace
 from rootstamp.growths import growth_answer, growth_terms
-from rootstamp.rows import Row, none_head
+from rootstamp.rows import none_head
 from rootstamp.stampers import clash, counting, writing
 from tests.samples import (
-    NO_NUMBERS, NO_STAMPS, THINGS, changes, plain_half, plain_head, short, some_entries, stampers, sure_stampers, weak,
+    NO_NUMBERS, NO_STAMPS, THINGS, changes, plain_half, plain_head, row_of, short, some_entries, stampers, sure_stampers, weak,
 )
 
 NO_HEADS = (None, (), (1,), (1, 5, 5), [1, 5], (True, 5), (-1, 5), (1 << 60, 5), (1, None), (1, True), (1, 10 ** 60), "h", 5)
 NO_PLACES = NO_NUMBERS + (-1, 10 ** 99, -(10 ** 99))
-
-
-def row_of(stamper, entries):
-    row = Row(stamper)
-    for entry in entries:
-        row.add(entry)
-    return row
 
 
 def many_marks(count, elder):

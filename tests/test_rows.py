@@ -6,18 +6,11 @@ from rootstamp.errors import NoPlace, NoStamp
 from rootstamp.rows import Row, is_head, none_head
 from rootstamp.stampers import counting, writing
 from tests.samples import (
-    NO_NUMBERS, NO_STAMPS, THINGS, plain_growth, plain_head, plain_marks, short, some_entries, stampers,
+    NO_NUMBERS, NO_STAMPS, THINGS, plain_growth, plain_head, plain_marks, row_of, short, some_entries, stampers,
 )
 
 SIZES = (0, 1, 2, 3, 4, 5, 6, 7, 8, 9, 13, 16, 17)
 NO_PLACES = NO_NUMBERS + (-1, 10 ** 99, -(10 ** 99))
-
-
-def row_of(stamper, entries):
-    row = Row(stamper)
-    for entry in entries:
-        row.add(entry)
-    return row
 
 
 def shown(row):
