@@ -78,8 +78,12 @@ def figures_end(text, begin):
 
 def number_of(figures):
     # More figures make neither a stamp nor the number of signs of any text.
-    if not 1 <= len(figures) <= MOST_FIGURES:
-        raise NoTerm()
-    if figures[0] == "0" and figures != "0":
+    if not is_number(figures, MOST_FIGURES):
         raise NoTerm()
     return int(figures)
+
+
+def is_number(text, most):
+    if not 1 <= len(text) <= most or figures_end(text, 0) != len(text):
+        return False
+    return text == "0" or text[0] != "0"
